@@ -1,0 +1,1 @@
+"""Ringingcalls: calls between devices, by houses that ask several at once."""
