@@ -119,3 +119,36 @@ def as_lists(thing):
         if isinstance(told(thing, at), tuple):
             made.append(put(thing, at, list(told(thing, at))))
     return made
+
+
+# No sorts, words or roles, of anything: what is odd, and what is none of these though a name, a number or a tuple.
+STRANGE = ODD + [
+    0, 1, 408, 1.5, "ann", "Ring", "rings ", "ask", "stop", "sure", "up", "late", "over", "ring\n", ("ring",), ("taken",),
+    ["ring"], {"ring": "taken"}, b"ring", b"no",
+]
+
+
+def beats(many):
+    """So many beats, as deeds."""
+    return [("beat",)] * many
+
+
+def do(machine, deed):
+    """Tell a machine one deed: a tuple of a method's name and its arguments."""
+    return getattr(machine, deed[0])(*deed[1:])
+
+
+def done(machine, deeds):
+    """The machine, behind the deeds."""
+    for deed in deeds:
+        do(machine, deed)
+    return machine
+
+
+def spoil(thing):
+    """Change a list or a dict that was told, as its asker may."""
+    thing.clear()
+    if isinstance(thing, list):
+        thing.append("spoilt")
+    else:
+        thing["spoilt"] = "spoilt"

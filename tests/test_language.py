@@ -22,6 +22,14 @@ BARRED = set(
 BARRED_WITHIN = ("dataclass", "overload", "contextmanager")
 # L6 and L7: statements and values that do not occur.
 NOT_ALLOWED = (ast.Global, ast.AsyncFunctionDef, ast.Await, ast.AsyncFor, ast.AsyncWith, ast.Import, ast.Div)
+# L5: of these the package has but some.
+DOUBLE = ("__init__", "__eq__", "__len__")
+# L25, the first list.
+METHODS = set(
+    "append clear copy count endswith extend find get index insert isalnum isalpha isdigit islower isspace isupper "
+    "items join keys ljust lower lstrip partition pop remove replace reverse rfind rjust rpartition rsplit rstrip "
+    "setdefault split splitlines startswith strip update upper values zfill bit_length".split()
+)
 
 
 def files():
@@ -35,11 +43,13 @@ def read(name):
         return file.read()
 
 
-class Language(unittest.TestCase):
+class Nodes:
     def nodes(self, *kinds):
         """Pairs (file, node) of all nodes of these kinds."""
         return [(name, node) for name in files() for node in ast.walk(ast.parse(read(name))) if isinstance(node, kinds)]
 
+
+class Language(Nodes, unittest.TestCase):
     def test_the_folder_has_plain_files_alone(self):
         for name in files():
             self.assertRegex(name, r"^[a-z0-9_]+\.py$")
@@ -115,3 +125,70 @@ class Language(unittest.TestCase):
     def test_no_number_with_a_point(self):
         for name, node in self.nodes(ast.Constant):
             self.assertNotIsInstance(node.value, (float, complex), (name, node.lineno))
+
+
+class Classes(Nodes, unittest.TestCase):
+    def classes(self):
+        """Pairs (file, class) of all classes of the package."""
+        return self.nodes(ast.ClassDef)
+
+    def own_methods(self):
+        """The names of all methods of the package."""
+        return {row.name for name, node in self.classes() for row in node.body if isinstance(row, ast.FunctionDef)}
+
+    def own_attributes(self):
+        """The names of all attributes that the package assigns."""
+        return {node.attr for name, node in self.nodes(ast.Attribute) if isinstance(node.ctx, ast.Store)}
+
+    def test_no_name_is_a_method_and_an_attribute(self):
+        self.assertEqual(self.own_methods() & self.own_attributes(), set())
+
+    def test_attributes_that_are_read_are_assigned(self):
+        known = self.own_methods() | self.own_attributes() | METHODS | {"add", "__init__"}
+        for name, node in self.nodes(ast.Attribute):
+            self.assertIn(node.attr, known, (name, node.lineno))
+
+    def test_own_names_are_none_of_builtin_values(self):
+        taken = {word for value in (str, int, list, dict, set, bytes, tuple) for word in dir(value)}
+        self.assertEqual((self.own_methods() - set(DOUBLE) | self.own_attributes()) & taken, set())
+
+    def test_double_underscore_methods(self):
+        for word in self.own_methods():
+            if word.startswith("__"):
+                self.assertIn(word, DOUBLE)
+
+    def test_no_method_twice(self):
+        for name, node in self.classes():
+            methods = [row.name for row in node.body if isinstance(row, ast.FunctionDef)]
+            self.assertEqual(len(methods), len(set(methods)), (name, node.name))
+
+    def test_no_generators(self):
+        self.assertEqual([(name, node.lineno) for name, node in self.nodes(ast.GeneratorExp, ast.Yield)], [])
+
+    def test_parameters_and_variables_hide_nothing(self):
+        for name in files():
+            tree = ast.parse(read(name))
+            hidden = set(dir(builtins)) | {node.name for node in ast.walk(tree) if isinstance(node, ast.ClassDef)}
+            for node in ast.walk(tree):
+                if isinstance(node, ast.ImportFrom):
+                    hidden |= {alias.name for alias in node.names}
+            for node in ast.walk(tree):
+                if isinstance(node, ast.arg):
+                    self.assertNotIn(node.arg, hidden, (name, node.lineno))
+                if isinstance(node, ast.Name) and isinstance(node.ctx, ast.Store):
+                    self.assertNotIn(node.id, hidden, (name, node.lineno))
+
+    def test_no_two_files_import_each_other(self):
+        reached = {name: set() for name in files()}
+        for name, node in self.nodes(ast.ImportFrom):
+            reached[name].add(node.module.split(".")[1] + ".py")
+        for again in reached:
+            for name in reached:
+                reached[name] |= {far for near in reached[name] for far in reached[near]}
+        for name in reached:
+            self.assertNotIn(name, reached[name])
+
+    def test_eq_and_len_are_single_returns(self):
+        for name, node in self.nodes(ast.FunctionDef):
+            if node.name in ("__eq__", "__len__"):
+                self.assertEqual([row.__class__.__name__ for row in node.body], ["Return"], (name, node.lineno))
