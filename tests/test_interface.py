@@ -25,6 +25,19 @@ CLASSES = {
         "__init__": "sort", "say": "word", "hear_again": "", "hear_sure": "", "beat": "", "manner": "", "state": "",
         "end": "", "is_sure": "", "twin": "", "__eq__": "other",
     }},
+    "forks": {"Fork": {
+        "__init__": "groups", "begin": "", "rings": "target", "taken": "target", "no": "target rank", "late": "target",
+        "give_up": "", "asked": "", "ends": "", "is_over": "", "best": "", "twin": "", "__eq__": "other",
+    }},
+    "places": {"Places": {
+        "__init__": "", "tell": "person target weight beats", "beat": "", "groups": "person", "persons": "",
+        "left": "person target", "twin": "", "__len__": "", "__eq__": "other",
+    }},
+    "talks": {"Talk": {
+        "__init__": "role text *without", "held": "", "end": "", "change": "text", "answered": "answer", "gone": "",
+        "beat": "", "hear_again": "number text", "hear_bye": "number", "role": "", "state": "", "changes": "",
+        "numbers": "", "under_way": "", "to_come": "", "twin": "", "__eq__": "other",
+    }},
 }
 
 
