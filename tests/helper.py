@@ -1,5 +1,11 @@
 """What several tests of ringingcalls need: odd things, sample letters, and their variants."""
 
+import random
+import unittest
+
+from ringingcalls.errors import Busy, NoCall, NoDeed, NoLetter, NoRing, NoTalk, TooMany
+from ringingcalls.worlds import World
+
 
 class Contrary:
     """An object that refuses to be compared, hashed, counted or walked."""
@@ -152,3 +158,169 @@ def spoil(thing):
         thing.append("spoilt")
     else:
         thing["spoilt"] = "spoilt"
+
+
+def ask(sender, receiver, number, kind, *what):
+    """An ask as a letter."""
+    return ("ask", sender, receiver, number, kind, what)
+
+
+def ring(sender, receiver, number, call=CALL, person="zoe", hops=9, path=(), text="hello"):
+    """The ask of a ring as a letter."""
+    return ask(sender, receiver, number, "ring", call, person, hops, path, text)
+
+
+def answer(sender, receiver, number, *what):
+    """An answer as a letter."""
+    return ("answer", sender, receiver, number, what)
+
+
+def sure(sender, receiver, number):
+    """A sure as a letter."""
+    return ("sure", sender, receiver, number)
+
+
+def held(sender, receiver, talk, *way):
+    """A held as a letter."""
+    return ("held", sender, receiver, talk, way)
+
+
+def hear(letter):
+    """The deed that a letter is heard."""
+    return ("hear", letter)
+
+
+RULES = ("hold", "extra", "given", "refresh", "late", "glare", "number")
+# Letters that are none, though nearly: True where a number stands, lists, too few and too many things.
+NO_LETTERS = ODD + [
+    0, "ask", ("ask",), ask("ann", "bob", True, "stop", 0), ask("ann", "bob", 0, "stop", True), sure("ann", "bob", True),
+    ring("ann", "bob", 0, call=("ann", True)), answer("ann", "bob", True, "done"), list(sure("ann", "bob", 0)),
+    answer("ann", "bob", 0, "taken", "bob", True, ()), ask("ann", "bob", 0, "bye", TALK, 0, ()),
+    ask("ann", "bob", 0, "bye", TALK, True, ()), sure("bob", "bob", 0), sure("ann", "bob", 0) + (0,),
+]
+
+
+def shown(keeper):
+    """All that a device or a house tells when it is asked, of both kinds."""
+    return (keeper.name(), keeper.kept(), keeper.askers(), keeper.askeds())
+
+
+class Played(unittest.TestCase):
+    """Devices and houses told deeds, and what they tell."""
+
+    def play(self, keeper, *rows):
+        """Rows of a deed and the letters that it tells."""
+        for deed, letters in rows:
+            self.assertEqual(do(keeper, deed), letters, deed)
+
+    def beaten(self, keeper, many):
+        """What it tells in so many beats, by beats, as far as it tells something."""
+        told = {}
+        for beat in range(1, many + 1):
+            letters = keeper.beat()
+            if letters:
+                told[beat] = letters
+        return told
+
+    def refused(self, error, keeper, deed, thing):
+        """A deed is refused, with its thing, and changes nothing."""
+        like = keeper.twin()
+        with self.assertRaises(error) as caught:
+            do(keeper, deed)
+        self.assertIs(caught.exception.thing, thing)
+        self.assertEqual(keeper, like)
+
+
+DEVICE_NAMES = ("ann", "bob", "cat", "dan")
+HOUSE_NAMES = ("hub", "inn", "joy")
+# Persons at devices, then one at persons of these, then one at persons of all three.
+PERSONS = ("xan", "yve", "zoe", "zed")
+TEXTS = ("hello", "warm", "cool", "dry")
+REFUSALS = (NoCall, NoDeed, NoLetter, NoRing, NoTalk, Busy, TooMany)
+# How often each deed is drawn: busy, with many copies, with many losses, slow and with few calls.
+RATES = (
+    {"call": 2, "give": 0.5, "take": 3, "refuse": 1, "end": 0.3, "change": 1, "here": 0.5, "beat": 8, "carry": 40,
+     "double": 2, "lose": 3},
+    {"call": 2, "give": 1, "take": 5, "refuse": 1, "end": 0.5, "change": 2, "here": 0.5, "beat": 4, "carry": 40,
+     "double": 6, "lose": 1},
+    {"call": 1, "give": 0.5, "take": 3, "refuse": 0.3, "end": 0.1, "change": 2, "here": 0.5, "beat": 10, "carry": 20,
+     "double": 4, "lose": 10},
+    {"call": 0.3, "give": 0.1, "take": 3, "refuse": 0.1, "end": 0.05, "change": 3, "here": 0.1, "beat": 5, "carry": 60,
+     "double": 2, "lose": 2},
+)
+
+
+class DrawnWorld:
+    """A world of drawn devices, houses and places, told drawn deeds; it keeps those done and the letters laid."""
+
+    def __init__(self, chance, without=()):
+        self.chance, self.without = chance, without
+        self.names = DEVICE_NAMES[:chance.randint(2, 4)]
+        self.houses = [(name, chance.random() < 0.6) for name in HOUSE_NAMES[:chance.randint(1, 3)]]
+        self.world = World(list(self.names), self.houses, without=without)
+        self.deeds, self.told, self.laid = [], [], {}
+        for house, stays in self.houses:
+            self.place(house)
+
+    def place(self, house):
+        """Persons are placed at a house, at devices or at persons that are."""
+        draw = self.chance
+        for person in PERSONS[:2]:
+            for again in range(draw.randint(0, 3)):
+                self.do(("place", house, person, ("device", draw.choice(self.names)), draw.randint(0, 3), draw.choice((5, 60, 999))))
+        for person, others in ((PERSONS[2], PERSONS[:2]), (PERSONS[3], PERSONS[:3])):
+            for again in range(draw.randint(0, 2)):
+                target = ("person", draw.choice(others), draw.choice(self.houses)[0])
+                self.do(("place", house, person, target, draw.randint(0, 3), 999))
+
+    def do(self, deed):
+        """A deed is done, unless it is refused; the letters laid are told."""
+        try:
+            told = self.world.do(deed)
+        except REFUSALS:
+            return []
+        self.deeds.append(deed)
+        self.told.append(told)
+        under_way = dict(self.world.letters())
+        letters = [under_way[number] for number in told if number in under_way]
+        self.laid.update({number: under_way[number] for number in told if number in under_way})
+        return letters
+
+    def deed(self, rates):
+        """A drawn deed, None where there is nothing to do it to."""
+        draw = self.chance
+        word = draw.choices(list(rates), list(rates.values()))[0]
+        name, house = draw.choice(self.names), draw.choice(self.houses)[0]
+        if word == "call":
+            return ("call", name, draw.choice(PERSONS), house, draw.choice(TEXTS))
+        if word == "here":
+            return ("here", name, draw.choice(PERSONS[:2]), house, draw.randint(0, 3), draw.choice((0, 5, 100)))
+        if word == "beat":
+            return ("beat",)
+        device = self.world.device(name)
+        found = {"give": device.calls, "take": device.rings, "refuse": device.rings, "end": device.talks,
+                 "change": device.talks}.get(word, self.world.letters)()
+        if not found:
+            return None
+        thing = draw.choice(sorted(found))
+        if word in ("carry", "lose", "double"):
+            # Letters come in their order more often than not.
+            return (word, found[0][0] if draw.random() < 0.5 else thing[0])
+        more = {"refuse": (draw.choice((404, 480, 486, 603)),), "change": (draw.choice(TEXTS),)}.get(word, ())
+        return (word, name, thing) + more
+
+    def step(self, rates):
+        """One drawn deed; it and the letters laid are told."""
+        deed = self.deed(rates)
+        return (deed, self.do(deed) if deed else [])
+
+    def changes(self, talk):
+        """The changes of a talk that is kept at both ends."""
+        return [self.world.device(name).talks()[talk].changes() for name in (talk[0][0], talk[1])]
+
+
+def drawn_worlds(seed, many, steps, without=()):
+    """Drawn worlds, each with the rates by which it is to be told deeds, and how many."""
+    chance = random.Random(seed)
+    for run in range(many):
+        yield DrawnWorld(chance, without), RATES[run % len(RATES)], chance.choice(steps)

@@ -15,6 +15,12 @@ FUNCTIONS = {
         "talk_named": "talk names",
     },
     "pairs": {"pair_ends": "sort lost"},
+    "worlds": {"is_deed": "thing"},
+    "rules": {"breaking": "rule"},
+    "otherwise": {"deeds_led": "deeds names"},
+    "texts": {
+        "show_letter": "letter", "show_weaving": "devices houses deeds", "read_letter": "text", "read_weaving": "text",
+    },
 }
 CLASSES = {
     "askers": {"Asker": {
@@ -38,6 +44,27 @@ CLASSES = {
         "beat": "", "hear_again": "number text", "hear_bye": "number", "role": "", "state": "", "changes": "",
         "numbers": "", "under_way": "", "to_come": "", "twin": "", "__eq__": "other",
     }},
+    "devices": {"Device": {
+        "__init__": "name *without", "call": "person house text", "give_up": "number", "here": "person house weight beats",
+        "take": "call", "refuse": "call rank", "end": "talk", "change": "talk text", "hear": "letter", "beat": "",
+        "name": "", "calls": "", "rings": "", "talks": "", "kept": "", "askers": "", "askeds": "", "twin": "",
+        "__eq__": "other",
+    }},
+    "houses": {"House": {
+        "__init__": "name *stays", "hear": "letter", "beat": "", "place": "person target weight beats", "name": "",
+        "stays": "", "places": "", "forks": "", "kept": "", "askers": "", "askeds": "", "twin": "", "__eq__": "other",
+    }},
+    "worlds": {"World": {
+        "__init__": "devices houses *without", "do": "deed", "play": "deeds", "letters": "", "talks": "", "hanging": "",
+        "devices": "", "houses": "", "device": "name", "house": "name", "beats": "", "kept": "", "is_settled": "",
+        "twin": "", "__eq__": "other",
+    }},
+    "desk": {"Desk": {"__init__": "", "say": "row", "__len__": ""}},
+}
+# What may be left out, of each class and what it is then.
+LEFT_OUT = {
+    ("talks", "Talk"): {"without": ()}, ("devices", "Device"): {"without": ()}, ("houses", "House"): {"stays": True},
+    ("worlds", "World"): {"without": ()},
 }
 
 
@@ -47,6 +74,12 @@ def arguments(function):
     for name, parameter in inspect.signature(function).parameters.items():
         told.append("*" + name if parameter.kind == parameter.KEYWORD_ONLY else name)
     return told
+
+
+def defaults(function):
+    """What arguments of a function that may be left out are then, by names."""
+    told = inspect.signature(function).parameters.items()
+    return {name: parameter.default for name, parameter in told if parameter.default != parameter.empty}
 
 
 class Interface(unittest.TestCase):
@@ -63,3 +96,20 @@ class Interface(unittest.TestCase):
                 for method, names in methods.items():
                     self.assertIn(method, vars(owner), (name, method))
                     self.assertEqual(arguments(vars(owner)[method])[1:], names.split(), (name, method))
+
+    def test_what_may_be_left_out(self):
+        for module, classes in CLASSES.items():
+            for name, methods in classes.items():
+                owner = getattr(importlib.import_module("ringingcalls." + module), name)
+                for method in methods:
+                    wanted = LEFT_OUT.get((module, name), {}) if method == "__init__" else {}
+                    self.assertEqual(defaults(vars(owner)[method]), wanted, (name, method))
+        for module, functions in FUNCTIONS.items():
+            for name in functions:
+                self.assertEqual(defaults(getattr(importlib.import_module("ringingcalls." + module), name)), {}, name)
+
+    def test_those_behind_a_bare_star_by_names_alone(self):
+        for module, classes in LEFT_OUT.items():
+            owner = getattr(importlib.import_module("ringingcalls." + module[0]), module[1])
+            with self.assertRaises(TypeError):
+                owner("ann", "asker", "hub", ())

@@ -192,3 +192,80 @@ class Classes(Nodes, unittest.TestCase):
         for name, node in self.nodes(ast.FunctionDef):
             if node.name in ("__eq__", "__len__"):
                 self.assertEqual([row.__class__.__name__ for row in node.body], ["Return"], (name, node.lineno))
+
+
+class Narrower(Nodes, unittest.TestCase):
+    def parents(self):
+        """Triples (file, node, parent) of all nodes."""
+        found = []
+        for name in files():
+            for parent in ast.walk(ast.parse(read(name))):
+                found += [(name, node, parent) for node in ast.iter_child_nodes(parent)]
+        return found
+
+    def called(self, node):
+        """The plain name that a call calls, None where it is no plain name."""
+        return node.func.id if isinstance(node, ast.Call) and isinstance(node.func, ast.Name) else None
+
+    def test_attributes_are_assigned_through_a_local_name(self):
+        for name, node in self.nodes(ast.Attribute):
+            if isinstance(node.ctx, ast.Store):
+                self.assertIsInstance(node.value, ast.Name, (name, node.lineno))
+
+    def test_behind_a_star_in_a_call_stands_a_name(self):
+        for name, node in self.nodes(ast.Call):
+            for argument in node.args:
+                if isinstance(argument, ast.Starred):
+                    self.assertIsInstance(argument.value, ast.Name, (name, node.lineno))
+            self.assertNotIn(None, [keyword.arg for keyword in node.keywords], (name, node.lineno))
+
+    def test_sets_stand_where_they_may(self):
+        for name, node, parent in self.parents():
+            if isinstance(node, (ast.Set, ast.SetComp)) or self.called(node) == "set":
+                stands = self.called(parent) in ("sorted", "len") or isinstance(parent, (ast.Compare, ast.Assign))
+                self.assertTrue(stands, (name, node.lineno))
+
+    def test_what_is_iterated_at_once(self):
+        for name, node, parent in self.parents():
+            lazy = self.called(node) in ("zip", "enumerate", "reversed", "range")
+            lazy = lazy or (
+                isinstance(node, ast.Call) and isinstance(node.func, ast.Attribute) and node.func.attr in ("items", "keys", "values")
+            )
+            if lazy:
+                looped = isinstance(parent, (ast.For, ast.comprehension)) and parent.iter == node
+                self.assertTrue(looped or self.called(parent) in ("list", "tuple", "dict", "sorted"), (name, node.lineno))
+
+    def test_keywords_of_builtins(self):
+        for name, node in self.nodes(ast.Call):
+            if self.called(node) in BUILTINS:
+                words = {keyword.arg for keyword in node.keywords}
+                self.assertLessEqual(words, {"key", "reverse"} if self.called(node) == "sorted" else set(), (name, node.lineno))
+
+    def test_any_and_the_like_take_lists(self):
+        for name, node in self.nodes(ast.Call):
+            if self.called(node) in ("any", "all", "sum"):
+                self.assertIsInstance(node.args[0], (ast.ListComp, ast.Name), (name, node.lineno))
+
+    def test_errors_are_made_where_they_are_raised(self):
+        for name, node in self.nodes(ast.Raise):
+            self.assertIsInstance(node.exc, ast.Call, (name, node.lineno))
+            self.assertIsInstance(node.exc.func, ast.Name, (name, node.lineno))
+
+    def test_own_errors_alone_are_caught(self):
+        for name, node in self.nodes(ast.ExceptHandler):
+            self.assertIsInstance(node.type, ast.Name, (name, node.lineno))
+            self.assertIn(node.type.id, ("NoWorld", "TooMany"), (name, node.lineno))
+
+    def test_no_lambdas_decorators_or_sign_of_percent(self):
+        self.assertEqual(self.nodes(ast.Lambda), [])
+        for name, node in self.nodes(ast.FunctionDef, ast.ClassDef):
+            self.assertEqual(node.decorator_list, [], (name, node.lineno))
+        for name in files():
+            self.assertNotIn("%", read(name), name)
+
+    def test_tables_at_module_level_hold_no_lists_or_dicts(self):
+        for name in files():
+            for row in ast.parse(read(name)).body:
+                if isinstance(row, ast.Assign):
+                    inner = list(ast.walk(row.value))[1:]
+                    self.assertEqual([node for node in inner if isinstance(node, (ast.List, ast.Dict))], [], (name, row.lineno))
