@@ -221,6 +221,74 @@ class Drawn(unittest.TestCase):
         return hoard
 
 
+class Ends:
+    """The ends of all askings of a drawn world, at the asker and at the asked one, as far as they were seen."""
+
+    def __init__(self, test, drawn):
+        self.test, self.drawn = test, drawn
+        self.askers, self.askeds, self.there, self.anew = {}, {}, set(), set()
+
+    def look(self):
+        """An end that is there never turns; an asking that is kept anew behind its keeping is marked."""
+        world, there = self.drawn.world, set()
+        for keeper in [world.device(name) for name in world.devices()] + [world.house(name) for name, stays in world.houses()]:
+            for number, asking in keeper.post.sent.items():
+                self.see(self.askers, (keeper.name(), asking.letter[2], number), asking.machine.end())
+            for (sender, number), answering in keeper.post.came.items():
+                key = (sender, keeper.name(), number)
+                if key in self.askeds and key not in self.there:
+                    self.anew.add(key)
+                there.add(key)
+                if key not in self.anew:
+                    self.see(self.askeds, key, answering.machine.end())
+        self.there = there
+
+    def see(self, ends, key, end):
+        """An end is seen."""
+        if ends.get(key) is not None:
+            self.test.assertEqual(end, ends[key])
+        ends[key] = end
+
+    def asker_end(self, key):
+        """The asker's end; one that went without an end that was seen came late in that very beat."""
+        return self.askers[key] or "late"
+
+
+class BothEnds(unittest.TestCase):
+    def seen(self, seed, rates, many):
+        """The ends of drawn worlds told deeds by these rates, behind their calm."""
+        chance = random.Random(seed)
+        for run in range(many):
+            drawn = DrawnWorld(chance)
+            ends = Ends(self, drawn)
+            for step in range(chance.choice((60, 150))):
+                drawn.step(rates)
+                ends.look()
+            for turn in range(200):
+                drawn.world.do(("calm", 1))
+                ends.look()
+            yield ends
+
+    def test_where_no_letter_is_lost_both_ends_are_the_same_or_the_askers_is_late(self):
+        found = set()
+        for rates in RATES[:2]:
+            for ends in self.seen(27, {word: rates[word] for word in rates if word not in ("lose", "double")}, 30):
+                for key in ends.askers:
+                    if key in ends.askeds and key not in ends.anew:
+                        pair = (ends.asker_end(key), ends.askeds[key])
+                        self.assertTrue(pair[0] in (pair[1], "late"), (key, pair))
+                        found.add(pair)
+        self.assertLessEqual({(end, end) for end in ("taken", "no", "done")}, found)
+
+    def test_each_asking_has_one_end_whatever_is_lost(self):
+        askers, askeds = set(), set()
+        for ends in self.seen(28, RATES[2], 40):
+            askers |= {ends.asker_end(key) for key in ends.askers}
+            askeds |= set(ends.askeds.values())
+        self.assertEqual(askers, {"taken", "no", "done", "late"})
+        self.assertEqual(askeds, {"taken", "no", "done"})
+
+
 class Houses(unittest.TestCase):
     def test_all_groups_ring_one_behind_the_other(self):
         devices = ["ann", "bob", "cat", "dan", "eve"]
